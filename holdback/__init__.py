@@ -1,0 +1,1 @@
+"""Holdback: blocks written back in any order, with parts held back."""
