@@ -25,13 +25,13 @@ class Plank:
 
     def write(self, block, values):
         self.ask_for_block(block)
-        given = len(values)
-        if given != self.width:
-            raise NoBlock(f"a list of {given} values is none of a block")
+        if len(values) != self.width:
+            raise NoBlock("the list is not as long as a block")
         self.contents[block] = tuple(values)
         self.written += 1
 
     def ask_for_block(self, block):
         # A number below 0 would be counted from the end by an index.
         if not 0 <= block < len(self.contents):
-            raise NoBlock(f"there is no block {block}")
+            # The number stays out of the words: Python refuses to write out very long ones.
+            raise NoBlock("there is no such block")

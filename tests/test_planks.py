@@ -148,6 +148,14 @@ class RefusalTest(unittest.TestCase):
                     self.plank.write(block, ["x", "y"])
                 self.assert_as_it_was()
 
+    def test_numbers_too_long_to_be_written_out(self):
+        for block in (10 ** 5000, -10 ** 5000):
+            with self.assertRaises(NoBlock):
+                self.plank.read(block)
+            with self.assertRaises(NoBlock):
+                self.plank.write(block, ["x", "y"])
+            self.assert_as_it_was()
+
     def test_a_list_not_as_long_as_a_block(self):
         for values in ([], ["x"], ["x", "y", "z"], ["x"] * 300):
             for block in range(3):

@@ -36,6 +36,10 @@ class SingleValueTest(ValueTest):
     def test_whole_numbers_beyond_their_bounds(self):
         self.is_none(10 ** 30 + 1, -10 ** 30 - 1, 10 ** 60, -10 ** 60)
 
+    def test_numbers_too_long_to_be_written_out(self):
+        self.assertIs(is_value(10 ** 5000), False)
+        self.assertIs(is_value((-10 ** 5000,)), False)
+
     def test_truths(self):
         self.is_none(True, False)
 
