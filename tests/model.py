@@ -9,18 +9,20 @@ class Model:
     def __init__(self, plank):
         self.blocks, self.cells = plank.blocks(), plank.cells()
         self.changes = []
+        self.made_at = {}
         self.out = set()
         self.at_first = {
             (block, cell): value for block in range(self.blocks) for cell, value in enumerate(plank.read(block))
         }
 
     def change(self, place, value, needs):
-        ahead = [number for number, one in enumerate(self.changes) if one[0] == place]
+        ahead = self.made_at.setdefault(place, [])
         self.changes.append((place, value, set(needs) | set(ahead[-1:])))
-        return len(self.changes) - 1
+        ahead.append(len(self.changes) - 1)
+        return ahead[-1]
 
     def newest(self, place, among=None):
-        found = [number for number, one in enumerate(self.changes) if one[0] == place]
+        found = self.made_at.get(place, [])
         return max((number for number in found if among is None or number in among), default=None)
 
     def value_at(self, place, among=None):
