@@ -66,6 +66,11 @@ class Store:
         pieces = self.standing(self.record_of(name))[1]
         return [self.book.in_hand(self.plan.piece_at(piece)) for piece in pieces]
 
+    def places_of(self, name):
+        record = self.record_of(name)
+        own = [self.plan.name_at(self.cell_of(name)), self.plan.record_at(record)]
+        return own + [self.plan.piece_at(piece) for piece in self.standing(record)[1]]
+
     def write(self, block):
         return self.book.write(block)
 

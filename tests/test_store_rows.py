@@ -7,6 +7,7 @@ from holdback.layouts import Layout
 from holdback.stores import Store
 from model import all_of, chance_of
 from store_model import POOL, StoreModel, deed_for, done, sizes_for
+from walk_model import names_and_texts_on
 
 
 class Pair:
@@ -40,18 +41,6 @@ class Pair:
         many = len(self.model.model.changes)
         told = [self.store.hold().needed(number) for number in range(many)]
         self.case.assertEqual(told, [self.model.model.needed(number) for number in range(many)])
-
-
-def names_and_texts_on(layout, plank):
-    """The names that stand on the plank, each with the texts of the pieces it leads to."""
-    def at(place):
-        return plank.read(place[0])[place[1]]
-
-    cells = [at(layout.name_at(k)) for k in range(layout.counts()[0])]
-    return {
-        cell[0]: [at(layout.piece_at(piece)) for piece in at(layout.record_at(cell[1]))[1]]
-        for cell in cells if cell is not None
-    }
 
 
 def step(chance, pair, number, writing):
